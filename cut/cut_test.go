@@ -115,10 +115,7 @@ func TestJoinByAModel(t *testing.T) {
 	for range 20000 {
 		l := make([]api.State, r.Intn(20))
 		for i := range l {
-			l[i] = state(view(uint64(r.Intn(3)), 0), r.Intn(4), "abcd"[:r.Intn(4)])
-			if l[i].V.N > 0 {
-				l[i].V.P = r.Intn(2)
-			}
+			l[i] = state(view(uint64(r.Intn(3)), r.Intn(2)), r.Intn(4), "abcd"[:r.Intn(4)])
 		}
 		var want []api.State
 		for _, v := range []api.ViewID{view(1, 0), view(1, 1), view(2, 0), view(2, 1)} {
@@ -188,6 +185,42 @@ func TestRest(t *testing.T) {
 	}
 }
 
+// P6.1: a number whose N is 0 is none's, whatever its P is: a state of it isn't joined, nothing is answered of it, and it isn't right, if P isn't 0.
+func TestNumbersOfNoView(t *testing.T) {
+	one, two := state(view(1, 0), 2, "c"), state(view(2, 1), 0, "")
+	for _, p := range []int{math.MinInt, -1, 0, 1, 2, api.MaxNodes - 1, api.MaxNodes, math.MaxInt} {
+		none := view(0, p)
+		for _, s := range []api.State{state(none, 0, ""), state(none, 0, "ab"), state(none, 5, ""), state(none, maxFloor, "ab")} {
+			if l := cut.Join([]api.State{s}); len(l) != 0 {
+				t.Errorf("Join of a state of %v = %v", none, l)
+			}
+			if l := cut.Join([]api.State{s, two, s, one, s}); !same(l, []api.State{one, two}) {
+				t.Errorf("Join with states of %v = %v", none, l)
+			}
+			for _, had := range []int{math.MinInt, -1, 0, 1, 2, 5, math.MaxInt} {
+				for _, l := range [][]api.State{nil, {one, two}, {s}, {s, one}} {
+					if x, e := cut.Rest(l, none, had); len(x) != 0 || e != api.OK {
+						t.Errorf("Rest(%v, %v, %d) = %v, %d", l, none, had, x, e)
+					}
+				}
+			}
+			if right := p == 0 && cut.End(s) == 0; cut.Form(s) != right {
+				t.Errorf("Form(%v) = %v", s, !right)
+			}
+		}
+	}
+	// A P of 0, or one that isn't right, makes no number none's while its N isn't 0.
+	for _, v := range []api.ViewID{view(1, 0), view(1, -1), view(1, api.MaxNodes), view(math.MaxUint64, 0)} {
+		s := state(v, 1, "b")
+		if l := cut.Join([]api.State{s}); !same(l, []api.State{s}) {
+			t.Errorf("Join of a state of %v = %v", v, l)
+		}
+		if x, e := cut.Rest(nil, v, 0); len(x) != 0 || e != api.ErrNone {
+			t.Errorf("Rest of no states, of %v = %v, %d", v, x, e)
+		}
+	}
+}
+
 // P6.1: Join and Rest together: who had the beginning of what others had gets what they had behind it, and so have all the same.
 func TestRestFillsUp(t *testing.T) {
 	const all = "abcdefghij"
@@ -222,7 +255,7 @@ func TestWrongStates(t *testing.T) {
 			l := []api.State{state(view(1, -5), floor, s), state(view(1, -5), 0, "ab"), state(view(0, 7), floor, s)}
 			cut.End(l[0])
 			cut.Form(l[0])
-			if n := len(cut.Join(l)); n > 2 {
+			if n := len(cut.Join(l)); n != 1 {
 				t.Errorf("Join has %d", n)
 			}
 			for _, had := range []int{math.MinInt, math.MinInt + 1, -1, 0, 1, 2, maxFloor, maxFloor + 1, math.MaxInt - 1, math.MaxInt} {
