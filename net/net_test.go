@@ -13,7 +13,7 @@ import (
 	"folkmoot/net"
 )
 
-func make1(t *testing.T, nodes int) *net.Net {
+func newNet(t *testing.T, nodes int) *net.Net {
 	t.Helper()
 	n, e := net.New(nodes)
 	if e != api.OK || n == nil {
@@ -70,7 +70,7 @@ func noPlaces(size int) []int {
 // P8.1
 func TestNew(t *testing.T) {
 	for _, nodes := range []int{1, 2, 15, api.MaxNodes} {
-		n := make1(t, nodes)
+		n := newNet(t, nodes)
 		wantBag(t, n, 0)
 		for a := range nodes {
 			for b := range nodes {
@@ -92,7 +92,7 @@ func TestNew(t *testing.T) {
 
 // P8.1: packets stand in the order in which they were put, those of a node to itself too.
 func TestPutAndTake(t *testing.T) {
-	n := make1(t, 3)
+	n := newNet(t, 3)
 	put(t, n, 0, 1, "a")
 	put(t, n, 2, 2, "b")
 	put(t, n, 1, 0, "")
@@ -111,7 +111,7 @@ func TestPutAndTake(t *testing.T) {
 
 // P8.1
 func TestPutOfNoNode(t *testing.T) {
-	n := make1(t, 3)
+	n := newNet(t, 3)
 	for _, i := range []int{-1, 3, api.MaxNodes, 64, math.MinInt, math.MaxInt} {
 		wantError(t, "Put from no node", n.Put(pack(i, 0, "a")), api.ErrArg)
 		wantError(t, "Put to no node", n.Put(pack(0, i, "a")), api.ErrArg)
@@ -122,7 +122,7 @@ func TestPutOfNoNode(t *testing.T) {
 
 // P8.1, P7: at most MaxBag are under way; what is put or doubled beyond is lost, but for what could not be put at all.
 func TestMaxBag(t *testing.T) {
-	n := make1(t, 2)
+	n := newNet(t, 2)
 	for i := range api.MaxBag {
 		if e := n.Put(api.Packet{From: 1, Bytes: []byte{byte(i), byte(i >> 8)}}); e != api.OK {
 			t.Fatalf("Put %d = %d", i, e)
@@ -152,7 +152,7 @@ func TestMaxBag(t *testing.T) {
 
 // P8.1
 func TestTakeOfThoseWhoDontHear(t *testing.T) {
-	n := make1(t, 3)
+	n := newNet(t, 3)
 	n.Cut(0, 1)
 	put(t, n, 0, 1, "a") // what is cut off is known only when it is to come
 	put(t, n, 1, 0, "b")
@@ -176,7 +176,7 @@ func TestTakeOfThoseWhoDontHear(t *testing.T) {
 
 // P8.1
 func TestDrop(t *testing.T) {
-	n := make1(t, 3)
+	n := newNet(t, 3)
 	put(t, n, 0, 1, "a")
 	put(t, n, 0, 2, "b")
 	put(t, n, 1, 2, "c")
@@ -191,7 +191,7 @@ func TestDrop(t *testing.T) {
 
 // P8.1
 func TestDouble(t *testing.T) {
-	n := make1(t, 3)
+	n := newNet(t, 3)
 	put(t, n, 0, 1, "a")
 	put(t, n, 2, 1, "b")
 	n.Cut(0, 1)
@@ -205,7 +205,7 @@ func TestDouble(t *testing.T) {
 // P8.1: each bit of some bytes is turned, and no other one.
 func TestTurn(t *testing.T) {
 	for bit := range 24 {
-		n := make1(t, 2)
+		n := newNet(t, 2)
 		put(t, n, 0, 1, "abc")
 		put(t, n, 0, 1, "abc")
 		want := pack(0, 1, "abc")
@@ -217,7 +217,7 @@ func TestTurn(t *testing.T) {
 
 // P8.1: where there is no such bit ErrArg goes first, and nothing is turned.
 func TestTurnOfNoBit(t *testing.T) {
-	n := make1(t, 2)
+	n := newNet(t, 2)
 	put(t, n, 0, 1, "ab")
 	put(t, n, 0, 1, "")
 	for turns := range net.Most + 1 {
@@ -237,7 +237,7 @@ func TestMost(t *testing.T) {
 	if net.Most != 2 {
 		t.Errorf("Most = %d", net.Most)
 	}
-	n := make1(t, 2)
+	n := newNet(t, 2)
 	put(t, n, 0, 1, "a")
 	put(t, n, 0, 1, "a")
 	wantError(t, "the first bit", n.Turn(0, 0), api.OK)
@@ -253,7 +253,7 @@ func TestMost(t *testing.T) {
 
 // P8.1: a double has the turned bits of those of which it is one; what is turned behind that is of one alone.
 func TestTurnsOfDoubles(t *testing.T) {
-	n := make1(t, 2)
+	n := newNet(t, 2)
 	put(t, n, 0, 1, "@")
 	n.Turn(0, 0)
 	n.Double(0)
@@ -273,7 +273,7 @@ func TestTurnsAreFound(t *testing.T) {
 	p, _ := frame.Encode(api.Frame{Kind: api.FBeat, From: 1})
 	for a := range 8 * len(p) {
 		for b := range a {
-			n := make1(t, 2)
+			n := newNet(t, 2)
 			n.Put(api.Packet{From: 1, Bytes: p})
 			n.Turn(0, a)
 			n.Turn(0, b)
@@ -289,7 +289,7 @@ func TestTurnsAreFound(t *testing.T) {
 
 // P8.1: where there is no such place nothing is done.
 func TestNoSuchPlace(t *testing.T) {
-	n := make1(t, 2)
+	n := newNet(t, 2)
 	for size := range 3 {
 		for _, i := range noPlaces(size) {
 			if p, e := n.Peek(i); e != api.ErrArg || !nothing(p) {
@@ -311,7 +311,7 @@ func TestNoSuchPlace(t *testing.T) {
 
 // P8.2
 func TestCutAndJoin(t *testing.T) {
-	n := make1(t, 4)
+	n := newNet(t, 4)
 	wantError(t, "Cut", n.Cut(3, 1), api.OK)
 	for range 2 { // the second time nothing changes
 		for a := range 4 {
@@ -333,7 +333,7 @@ func TestCutAndJoin(t *testing.T) {
 
 // P8.2
 func TestHearersThatAreNone(t *testing.T) {
-	n := make1(t, 3)
+	n := newNet(t, 3)
 	for _, i := range []int{-1, 3, 4, api.MaxNodes, 64, math.MinInt, math.MaxInt} {
 		for _, k := range []int{0, 2, i} {
 			wantError(t, "Cut", n.Cut(i, k), api.ErrArg)
@@ -359,7 +359,7 @@ func TestHearersThatAreNone(t *testing.T) {
 
 // P8.2, the chapter's example and some more.
 func TestClass(t *testing.T) {
-	n := make1(t, 3)
+	n := newNet(t, 3)
 	want := func(sets ...uint16) {
 		t.Helper()
 		for i, s := range sets {
@@ -384,7 +384,7 @@ func TestClass(t *testing.T) {
 
 // P8.2: of 16 nodes, in two classes, then in all that the words say.
 func TestClassOfMaxNodes(t *testing.T) {
-	n := make1(t, api.MaxNodes)
+	n := newNet(t, api.MaxNodes)
 	for a := range api.MaxNodes {
 		for b := range a {
 			if a%2 != b%2 {
@@ -440,7 +440,7 @@ func scrub(b []byte) {
 
 // The rule 'Memory' at P8.1: a packet that is handed in is neither kept nor changed.
 func TestPutKeepsNoArgument(t *testing.T) {
-	n := make1(t, 2)
+	n := newNet(t, 2)
 	b := append(make([]byte, 0, 8), "abc"...)
 	n.Put(api.Packet{To: 1, Bytes: b})
 	n.Turn(0, 0)
@@ -453,7 +453,7 @@ func TestPutKeepsNoArgument(t *testing.T) {
 
 // The rule 'Memory' at P8.1: an answer is new memory, of doubles too.
 func TestAnswersAreNewMemory(t *testing.T) {
-	n := make1(t, 2)
+	n := newNet(t, 2)
 	put(t, n, 0, 1, "abc")
 	n.Double(0)
 	n.Double(0)
@@ -477,7 +477,7 @@ func TestAnswersAreNewMemory(t *testing.T) {
 
 // P1: a long packet is doubled as often as there is room, and each one turned, at the cost of few bytes.
 func TestManyDoublesOfALongPacket(t *testing.T) {
-	n := make1(t, 1)
+	n := newNet(t, 1)
 	long := make([]byte, 1<<26)
 	n.Put(api.Packet{Bytes: long})
 	for i := 1; i < api.MaxBag; i++ {
@@ -625,7 +625,7 @@ func TestAsTheModel(t *testing.T) {
 	for seed := range int64(60) {
 		r := rand.New(rand.NewSource(seed))
 		m := &model{nodes: 1 + r.Intn(5), cut: map[[2]int]int{}}
-		n := make1(t, m.nodes)
+		n := newNet(t, m.nodes)
 		for k := range 400 {
 			if !step(r, n, m) {
 				t.Fatalf("seed %d, step %d: they answer differently", seed, k)
