@@ -57,7 +57,7 @@ func (t *Total) hear(x exchange.Told) api.Errno {
 	return api.OK
 }
 
-// settle: when all of the view have told, they go on from one order.
+// settle: when the last of the view tells, all go on from one order. If the own summary isn't sent by then, nothing follows from it in this view.
 func (t *Total) settle() {
 	if t.status != Collect || len(t.told) < ident.Count(t.view.Set) {
 		return

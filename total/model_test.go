@@ -58,7 +58,7 @@ func (o *model) enter(v api.View) api.Errno {
 	if !ident.Above(v.ID, o.view.ID) || !ident.Has(v.Set, o.self) {
 		return api.ErrStale
 	}
-	o.view, o.in, o.status, o.seq = v, true, "send", 0
+	o.view, o.in, o.status, o.seq = v, v.ID.N > 0, "send", 0
 	o.buffer, o.told, o.safeFrom, o.safe = nil, nil, 0, nil
 	o.labelled()
 	return api.OK
@@ -69,6 +69,9 @@ func (o *model) summary() api.Summary {
 }
 
 func (o *model) toSend() ([]byte, bool) {
+	if !o.in {
+		return nil, false
+	}
 	if o.status == "send" {
 		m, e := content.EncodeAll(o.summary())
 		return m, e == api.OK
@@ -89,7 +92,6 @@ func (o *model) sent() api.Errno {
 	} else {
 		o.buffer = o.buffer[1:]
 	}
-	o.settled()
 	return api.OK
 }
 
@@ -297,20 +299,25 @@ func (p *pair) alike() {
 
 // P17.1 to P17.4, P1: whatever is told, in whatever order, all is as the chapter says.
 func TestAsTheChapterSays(t *testing.T) {
-	settled, taken := 0, 0
+	settled, stuck, none, taken := 0, 0, 0, 0
 	for seed := range int64(1200) {
 		p := pairOf(t, seed)
 		for range 120 {
 			p.step()
 			p.alike()
-			if p.o.status == "normal" {
+			switch {
+			case p.o.status == "normal":
 				settled++
+			case p.o.status == "collect" && len(p.o.told) == ident.Count(p.o.view.Set):
+				stuck++
+			case p.o.view.Set != 0 && !p.o.in:
+				none++
 			}
 		}
 		taken += p.o.report - 1
 	}
-	if settled < 10000 || taken < 300 {
-		t.Errorf("only %d steps in a view in which all have told, and %d messages", settled, taken)
+	if settled < 10000 || stuck < 300 || none < 300 || taken < 300 {
+		t.Errorf("only %d steps in a view in which all have told, %d where they had too early, %d with a number of no view, and %d messages", settled, stuck, none, taken)
 	}
 }
 

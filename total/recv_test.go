@@ -170,21 +170,44 @@ func TestSettleWaits(t *testing.T) {
 	}
 }
 
-// P17.3: when all have told, but the own summary isn't sent, it waits for that.
-func TestSettleWaitsForSent(t *testing.T) {
-	x := nodeOf(t, 2, 0, 2)
-	bcasts(t, x, "m")
-	enters(t, x, view(1, 3))
-	m, _ := x.Next()
-	recvs(t, x, 0, m)
-	recvs(t, x, 1, all(t, summary("ax", "a", 2, id(0, 0))))
-	l := of(id(1, 0), 1, 0)
-	con := append([]api.Entry{{L: l, M: []byte("m")}}, entries("ax")...)
-	knows(t, x, api.Summary{Con: con, Next: 1})
-	sendsAll(t, x)
-	knows(t, x, api.Summary{Con: con, Ord: []api.Label{named('a'), l}, Next: 2, High: id(1, 0)})
-	sendsOne(t, x, l, "m")
-	quiet(t, x)
+// P17.2, P17.3: when all have told ahead of Sent, the status is Collect behind it, and stays so in this view, whatever comes.
+func TestAllToldAheadOfSent(t *testing.T) {
+	for _, n := range []int{2, 4} {
+		primary := n == 2
+		x := nodeOf(t, n, 0, 2)
+		bcasts(t, x, "m")
+		enters(t, x, view(1, 3))
+		m, _ := x.Next()
+		recvs(t, x, 0, m)
+		told := all(t, summary("ax", "a", 2, id(0, 0)))
+		recvs(t, x, 1, told)
+		l := of(id(1, 0), 1, 0)
+		s := api.Summary{Con: append([]api.Entry{{L: l, M: []byte("m")}}, entries("ax")...), Next: 1}
+		knows(t, x, s)
+		sendsAll(t, x)
+		knows(t, x, s)
+		quiet(t, x)
+		want(t, "Recv", x.Recv(0, m), api.ErrState)
+		want(t, "Recv", x.Recv(1, told), api.ErrState)
+		knows(t, x, s)
+		recvs(t, x, 1, one(t, "by"))
+		s.Con = append(s.Con, entries("by")...)
+		if primary {
+			s.Ord = labels("b")
+		}
+		knows(t, x, s)
+		secures(t, x, 0)
+		bcasts(t, x, "n")
+		quiet(t, x)
+		// The next view goes on from what is known.
+		settles(t, x, 0, view(2, 3), map[int]api.Summary{1: empty()})
+		s = x.Summary()
+		if len(s.Con) != 4 || s.Next != 1 || primary && (len(s.Ord) != 4 || s.High != id(2, 0)) || !primary && (len(s.Ord) != 0 || s.High != id(0, 0)) {
+			t.Fatalf("%d nodes: Summary = %v", n, s)
+		}
+		bcasts(t, x, "o")
+		sendsOne(t, x, of(id(2, 0), 1, 0), "o")
+	}
 }
 
 // P17.3: what all told is gone on from: an order is taken over, even if it has less.

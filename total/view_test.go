@@ -37,6 +37,49 @@ func TestStaleViews(t *testing.T) {
 	stale(api.View{ID: id(math.MaxUint64, 15), Set: 7}, view(1, 7))
 }
 
+// P17.1 to P17.4: a number whose N is 0 is none's, whatever its P: with it there is no view.
+func TestNumbersOfNoView(t *testing.T) {
+	for _, p := range []int{1, 2, api.MaxNodes - 1, api.MaxNodes, math.MaxInt} {
+		x := nodeOf(t, 3, 1, 3)
+		bcasts(t, x, "a")
+		nowhere := func(waiting int) {
+			t.Helper()
+			quiet(t, x)
+			knows(t, x, empty())
+			takes(t, x, "")
+			if x.Primary() || x.Waiting() != waiting {
+				t.Fatalf("(0, %d): Primary %t, Waiting %d, want %d", p, x.Primary(), x.Waiting(), waiting)
+			}
+			for _, m := range [][]byte{nil, {1}, all(t, empty()), one(t, "ax")} {
+				for _, from := range []int{0, 1, -1, 99} {
+					want(t, "Recv", x.Recv(from, m), api.ErrState)
+					want(t, "Safe", x.Safe(from, m), api.ErrState)
+				}
+			}
+		}
+		enters(t, x, api.View{ID: id(0, p), Set: 7})
+		nowhere(1)
+		bcasts(t, x, "b")
+		nowhere(2)
+		// It is the one that the next must be above, all the same.
+		want(t, "View", x.View(api.View{ID: id(0, p), Set: 7}), api.ErrStale)
+		want(t, "View", x.View(api.View{ID: id(0, p-1), Set: 7}), api.ErrStale)
+		if p < math.MaxInt {
+			enters(t, x, api.View{ID: id(0, p+1), Set: 2})
+		}
+		bcasts(t, x, "c")
+		want(t, "Bcast", x.Bcast([]byte("d")), api.ErrBusy)
+		nowhere(3)
+		v := id(1, 0)
+		enters(t, x, view(1, 7))
+		knows(t, x, api.Summary{Con: []api.Entry{{L: of(v, 1, 1), M: []byte("a")}, {L: of(v, 2, 1), M: []byte("b")}, {L: of(v, 3, 1), M: []byte("c")}}, Next: 1})
+		if !x.Primary() || x.Waiting() != 0 {
+			t.Fatalf("(1, 0) behind (0, %d): Primary %t, Waiting %d", p, x.Primary(), x.Waiting())
+		}
+		sendsAll(t, x)
+	}
+}
+
 // P17.4: a primary view has more than half of the nodes.
 func TestPrimary(t *testing.T) {
 	for _, c := range []struct {
