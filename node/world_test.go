@@ -9,6 +9,7 @@ import (
 
 	"folkmoot/api"
 	"folkmoot/ident"
+	"folkmoot/judge"
 	"folkmoot/net"
 	"folkmoot/node"
 )
@@ -225,7 +226,25 @@ func (w *world) held() []api.Item {
 			w.fatal("the node %d has accepted %q, of which %q are delivered", i, accepted, l)
 		}
 	}
+	w.judged(whole)
 	return whole
+}
+
+// judged: as P3 and P4 ask, that is the one order, and the events of all nodes are those of one group.
+func (w *world) judged(whole []api.Item) {
+	w.t.Helper()
+	var accepted [][][]byte
+	var delivered [][]api.Item
+	var traces [][]api.Event
+	for _, n := range w.nodes {
+		accepted, delivered, traces = append(accepted, n.Sent()), append(delivered, n.Got()), append(traces, n.Trace())
+	}
+	if l, ok := judge.Total(accepted, delivered); !ok || !slices.EqualFunc(l, whole, sameItem) {
+		w.fatal("judge.Total is %v, %t, of the order %v", l, ok, whole)
+	}
+	if !judge.Views(traces) {
+		w.fatal("judge.Views is false")
+	}
 }
 
 // kept: what a node has accepted waits as long as it has no view, and else is among what it knows.

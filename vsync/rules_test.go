@@ -6,6 +6,7 @@ import (
 
 	"folkmoot/api"
 	"folkmoot/ident"
+	"folkmoot/judge"
 )
 
 // stay is a node's time in a view: what it sent, received, and knew to be safe there, and the view behind it.
@@ -114,12 +115,12 @@ func brokenView(nodes map[int]*stay) string {
 	return ""
 }
 
-// The rules find what is broken, so that it tells something when they don't.
+// The rules find what is broken, so that it tells something when they don't; and judge.Views finds it, too.
 func TestRules(t *testing.T) {
 	v, w := view(1, 0, 3), view(2, 0, 3)
 	a := []api.Event{viewed(v), sent(v, "a"), received(v, 0, "a"), safe(v, 0, "a"), viewed(w)}
 	b := []api.Event{viewed(v), received(v, 0, "a"), viewed(w)}
-	if s := broken([][]api.Event{a, b}); s != "" {
+	if s := broken([][]api.Event{a, b}); s != "" || !judge.Views([][]api.Event{a, b}) {
 		t.Errorf("nothing is broken, but: %s", s)
 	}
 	for i, l := range [][][]api.Event{
@@ -137,7 +138,7 @@ func TestRules(t *testing.T) {
 		{a[:2], {viewed(v), received(v, 0, "a"), safe(v, 0, "a")}},
 		{{}, {viewed(v), received(v, 0, "a")}},
 	} {
-		if broken(l) == "" {
+		if broken(l) == "" || judge.Views(l) {
 			t.Errorf("%d: nothing is found", i)
 		}
 	}

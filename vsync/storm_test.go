@@ -7,6 +7,7 @@ import (
 	"testing"
 
 	"folkmoot/api"
+	"folkmoot/judge"
 	"folkmoot/net"
 	"folkmoot/vsync"
 )
@@ -205,6 +206,9 @@ func (f *flock) held() {
 	f.t.Helper()
 	if wrong := broken(f.traces); wrong != "" {
 		f.fatal("%s", wrong)
+	}
+	if !judge.Views(f.traces) {
+		f.fatal("judge.Views is false")
 	}
 }
 
